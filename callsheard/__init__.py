@@ -1,0 +1,1 @@
+"""Callsheard: what rooms hear when nobody knows which doors are open."""

@@ -1,6 +1,6 @@
 """Forms: what all logs that are alike have in common, as nested blocks (word, tops, inner)."""
 
-from callsheard.logs import is_word, last_calls, top_room, word_of
+from callsheard.logs import called_rooms, is_word, last_calls, top_room, word_of
 from callsheard.paths import is_ascending, lies_in, pieces
 
 
@@ -67,6 +67,11 @@ def words_by_form(form):
     """A list with the word of each room by the form, or None."""
     words = {room: word for word, tops, _ in blocks(form) for room in tops}
     return [words[room] for room in sorted(words)]
+
+
+def called_by_form(form):
+    """The ascending list of the rooms that are called by the form."""
+    return called_rooms(words_by_form(form))
 
 
 def word_by_form(form, part):

@@ -56,3 +56,14 @@ def word_of(log, rooms):
 def log_of(words, order):
     """The list of one call in each room of the order, with the room's word."""
     return [(room, words[room]) for room in order]
+
+
+def called_rooms(words):
+    """The ascending list of the rooms that have a word in a list with a word or None for each room."""
+    return [room for room, word in enumerate(words) if word is not None]
+
+
+def listed_words(words):
+    """Words and None in their order, each of them once."""
+    silence = [None] if None in words else []
+    return silence + sorted({word for word in words if word is not None})

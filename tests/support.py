@@ -1,6 +1,7 @@
 """What the tests share: houses and logs to try, and answers worked out from the definitions alone."""
 
 import copy
+import functools
 import itertools
 import random
 
@@ -61,6 +62,60 @@ def trials(seed):
         for _ in range(6):
             first, second = two_logs(dice, house.rooms)
             yield house, first, second
+
+
+def form_trials(seed, most_rooms=6):
+    """Houses with up to that many rooms, with a log each."""
+    dice = random.Random(seed)
+    houses = [every_house(rooms) for rooms in (1, 2, 3, 4)] + [some_houses(seed, 5, 30), some_houses(seed + 1, 6, 15)]
+    for house in itertools.chain(*houses[:most_rooms]):
+        for words in (["bell", "drum", "horn"], ["bell", "drum"], ["a", "b", "c", "d", "e", "f"]):
+            yield house, a_log(dice, house.rooms, dice.randrange(2 * house.rooms + 2), words)
+
+
+def some_facts(seed, count, most_rooms=5):
+    """Lists of words, pairs and heard entries, most of them true of some order."""
+    dice = random.Random(seed)
+    for _ in range(count):
+        rooms = dice.randrange(1, most_rooms + 1)
+        words = [dice.choice(WORDS[:dice.choice([2, 3])] + [None] * dice.randrange(2)) for _ in range(rooms)]
+        order = [room for room in range(rooms) if words[room] is not None]
+        dice.shuffle(order)
+        log = [(room, words[room]) for room in order]
+        pairs = []
+        for _ in range(dice.randrange(4) if len(order) > 1 else 0):
+            x, y = sorted(dice.sample(order, 2), key=order.index)
+            pairs.append((x, y) if dice.random() < 0.85 else (y, x))
+        heard = []
+        for _ in range(dice.randrange(4)):
+            members = tuple(sorted(dice.sample(range(rooms), dice.randrange(1, rooms + 1))))
+            word = word_in(log, members)
+            heard.append((members, word if dice.random() < 0.85 else dice.choice(WORDS + [None])))
+        yield words, pairs, heard
+
+
+def some_looks(seed, count, most_rooms=5, most_doors=6):
+    """Houses with a log, looks and known doors each, most of them true of some opening."""
+    dice = random.Random(seed)
+    for _ in range(count):
+        rooms = dice.randrange(1, most_rooms + 1)
+        doors = [door for door in itertools.combinations(range(rooms), 2) if dice.random() < 0.7]
+        doors = sorted(dice.sample(doors, min(len(doors), most_doors)))
+        house = House(rooms, doors)
+        truth = [door for door in doors if dice.random() < 0.5]
+        log = a_log(dice, rooms, dice.randrange(2 * rooms + 2), WORDS[:dice.choice([2, 3])])
+        looks = []
+        for _ in range(dice.randrange(4)):
+            looked = dice.randrange(len(log) + 1)
+            looks.append((looked, heard(house, log[:looked], truth)))
+        known = [door for door in doors if dice.random() < 0.25]
+        opened = [door for door in known if door in truth]
+        shut = [door for door in known if door not in truth]
+        if looks and dice.random() < 0.2:
+            dice.choice(looks)[1][dice.randrange(rooms)] = dice.choice(WORDS + [None])
+        if known and dice.random() < 0.1:
+            opened, shut = shut, opened
+        yield house, log, looks, opened, shut
 
 
 def by_definition_last_calls(log):
@@ -184,6 +239,61 @@ def form_by_definition(house, log):
         return tuple(block(piece) for piece in pieces_of(house, rooms))
 
     return blocks(range(house.rooms))
+
+
+def blocks_in_order(form):
+    found = []
+    for block in form:
+        found.append(block)
+        found.extend(blocks_in_order(block[2]))
+    return found
+
+
+def rooms_of(block):
+    return sorted(room for inside in blocks_in_order((block,)) for room in inside[1])
+
+
+def orders_keeping(house, form):
+    """All orders of the called rooms under whose log the house has the form, in ascending order."""
+    words = {room: block[0] for block in blocks_in_order(form) for room in block[1]}
+    called = [room for room in sorted(words) if words[room] is not None]
+    return [
+        order for order in itertools.permutations(called)
+        if form_by_definition(house, [(room, words[room]) for room in order]) == form
+    ]
+
+
+@functools.cache
+def order_trials():
+    """Houses with a form each, and all orders that keep it."""
+    found = []
+    for house, log in form_trials(1001, 5):
+        form = form_by_definition(house, log)
+        found.append((house, form, orders_keeping(house, form)))
+    return found
+
+
+def all_fitting_orders(words, pairs, heard):
+    """All orders that fit facts, in ascending order."""
+    called = [room for room, word in enumerate(words) if word is not None]
+    found = []
+    for order in itertools.permutations(called):
+        log = [(room, words[room]) for room in order]
+        if all(order.index(x) < order.index(y) for x, y in pairs):
+            if all(word_in(log, rooms) == word for rooms, word in heard):
+                found.append(order)
+    return found
+
+
+def fitting_openings_of(house, log, looks, opened, shut):
+    """All openings that fit, in the order of the document."""
+    found = []
+    for choice in itertools.product([False, True], repeat=len(house.doors())):
+        opening = [door for door, is_open in zip(house.doors(), choice) if is_open]
+        if set(opened) <= set(opening) and not set(shut) & set(opening):
+            if all(heard(house, log[:count], opening) == list(seen) for count, seen in looks):
+                found.append(opening)
+    return found
 
 
 # Lists that are passed and returned

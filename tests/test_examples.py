@@ -34,6 +34,50 @@ EXAMPLES = [
 >>> format_form(parse_form('drum[1](bell[0] -[2])'))
 'drum[1](bell[0] -[2])'
 """,
+    """
+>>> from callsheard.house import House
+>>> from callsheard.forms import form_of
+>>> from callsheard.exchanges import nearest_order
+>>> house = House.corridor(3)
+>>> form = form_of(house, [(2, 'horn'), (0, 'bell'), (1, 'bell')])
+>>> nearest_order(house, form, (1, 2, 0))
+(1, (2, 1, 0))
+""",
+    """
+>>> from callsheard.facts import Facts, fitting_answer
+>>> facts = Facts(['bell', 'horn', 'bell'], [(0, 1)], [((0, 1), 'bell'), ((1, 2), 'horn')])
+>>> fitting_answer(facts)
+('stuck', (0, 1, 2), (('pair', 1), ('heard', 0), ('heard', 1)))
+""",
+    """
+>>> from callsheard.house import House
+>>> from callsheard.forms import form_of
+>>> from callsheard.pins import near_miss, pins
+>>> house = House.corridor(3)
+>>> form = form_of(house, [(0, 'bell'), (2, 'horn'), (1, 'drum')])
+>>> (pins(house, form), near_miss(house, form, 1))
+([(1, (0, 1, 2))], (2, 1, 0))
+""",
+    """
+>>> from callsheard.house import House
+>>> from callsheard.looks import looks_answer
+>>> log = [(0, 'bell'), (2, 'drum'), (1, 'horn')]
+>>> looks_answer(House.corridor(3), log, [(3, ['bell', 'drum', 'drum'])])
+('clash', (1, 2), 0, 1)
+""",
+    """
+>>> from callsheard.house import House
+>>> from callsheard.looks import door_states
+>>> log = [(0, 'bell'), (2, 'drum'), (1, 'horn')]
+>>> door_states(House.corridor(3), log, [(3, ['bell', 'horn', 'horn'])])
+['shut', 'open']
+""",
+    """
+>>> from callsheard.house import House
+>>> from callsheard.openings import count_openings
+>>> count_openings(House.corridor(3), [], [], opened=[(0, 1)])
+2
+""",
 ]
 
 

@@ -11,19 +11,11 @@ from callsheard.forms import (
 from callsheard.house import House
 from callsheard.logs import words_of
 from tests.support import (
-    a_log, check_clean, every_house, form_by_definition, parts_of, pieces_of, some_houses, trials, word_in,
+    a_log, blocks_in_order, check_clean, every_house, form_by_definition, form_trials, parts_of, pieces_of,
+    rooms_of, trials, word_in,
 )
 
 ALPHABET = "abcdefghijkl"
-
-
-def form_trials(seed):
-    """Houses with a log each."""
-    dice = random.Random(seed)
-    houses = itertools.chain(every_house(1), every_house(2), every_house(3), every_house(4))
-    for house in itertools.chain(houses, some_houses(seed, 5, 30), some_houses(seed + 1, 6, 15)):
-        for words in (["bell", "drum", "horn"], ["bell", "drum"], ["a", "b", "c", "d", "e", "f"]):
-            yield house, a_log(dice, house.rooms, dice.randrange(2 * house.rooms + 2), words)
 
 
 def all_logs(rooms, words):
@@ -32,18 +24,6 @@ def all_logs(rooms, words):
         for order in itertools.permutations(range(rooms), count):
             for said in itertools.product(words, repeat=count):
                 yield list(zip(order, said))
-
-
-def blocks_in_order(form):
-    found = []
-    for block in form:
-        found.append(block)
-        found.extend(blocks_in_order(block[2]))
-    return found
-
-
-def rooms_of(block):
-    return sorted(room for inside in blocks_in_order((block,)) for room in inside[1])
 
 
 class FormOfTest(unittest.TestCase):

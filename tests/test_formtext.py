@@ -7,8 +7,7 @@ import unittest
 from callsheard.errors import BadText
 from callsheard.forms import form_of
 from callsheard.formtext import format_form, parse_form
-from tests.support import check_clean
-from tests.test_forms import form_trials
+from tests.support import check_clean, form_trials
 
 NUMBER = "(?:0|[1-9][0-9]?)"
 BARE = re.compile(r"(?:[a-z]{1,8}|-)\[" + NUMBER + "(?:," + NUMBER + r")*\]")

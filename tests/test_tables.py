@@ -8,8 +8,8 @@ from callsheard.errors import NoLog, TooLarge
 from callsheard.forms import form_of, plain_log
 from callsheard.house import House
 from callsheard.tables import check_no_keeper, form_of_table, keepers, table_answer, table_of
-from tests.support import check_clean, every_house, parts_of, some_houses, word_in
-from tests.test_forms import all_logs, form_trials
+from tests.support import check_clean, every_house, form_trials, parts_of, some_houses, word_in
+from tests.test_forms import all_logs
 
 WORDS = ["a", "b", None]
 

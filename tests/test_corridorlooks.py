@@ -85,6 +85,24 @@ class CutsAnswerTest(unittest.TestCase):
         self.assertEqual(cuts_answer(4, log, [(2, ["a", None, "?", "b"])]), ("cuts", (1, 2)))
         self.assertEqual(cuts_answer(5, [(0, "a"), (4, "b")], [(2, ["a", "?", None, "?", "b"])]), ("cuts", (1, 3)))
 
+    def test_the_best_cuts_do_not_always_begin_with_the_longest_stretch_at_the_end(self):
+        for rooms, log, looks, cuts in (
+            (5, [(2, "a"), (0, "a"), (1, "b"), (3, "a"), (1, "c"), (1, "a")],
+             [(4, ["?", "?", "a", "?", "?"]), (2, ["a", "a", "?", "?", None])], (4,)),
+            (6, [(5, "c"), (1, "a"), (4, "a")],
+             [(0, ["?", None, None, "?", "?", None]), (3, ["?", "?", "a", "?", "a", "?"]),
+              (2, ["a", "a", "?", None, "?", "?"])], (2, 5)),
+        ):
+            self.assertEqual(min(fitting_cuts(rooms, log, looks), key=lambda found: (len(found), found)), cuts)
+            self.assertEqual(cuts_answer(rooms, log, looks), ("cuts", cuts))
+
+    def test_reachable_places_ascend(self):
+        # Place 2 is reachable only by place 1, places 3 and 4 are so at once.
+        log = [(1, "b"), (0, "c"), (2, "b")]
+        looks = [(3, ["?", "b", "b", "?", "b"]), (3, ["?", "?", "b", "?", None])]
+        self.assertEqual(reachable_places(5, log, looks), (0, 1, 2, 3, 4))
+        self.assertEqual(cuts_answer(5, log, looks), ("wall", (0, 1, 2, 3, 4)))
+
     def test_walls(self):
         self.assertEqual(cuts_answer(3, [], [(0, ["?", "a", "?"])]), ("wall", (0, 1)))
         self.assertEqual(cuts_answer(3, [], [(0, ["a", "?", "?"])]), ("wall", (0,)))

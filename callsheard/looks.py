@@ -1,7 +1,7 @@
 """Looks at the rooms: what they tell of the doors."""
 
 from callsheard.errors import Impossible
-from callsheard.hearing import areas, hear
+from callsheard.hearing import areas
 from callsheard.house import House
 from callsheard.logs import top_room, word_of
 from callsheard.paths import lies_in, reached
@@ -52,7 +52,17 @@ def opening_fits(house, log, looks, opening, *, opened=(), shut=()):
     """True if the opening fits the known doors and the looks."""
     if not lies_in(opened, opening) or any([door in shut for door in opening]):
         return False
-    return all([hear(house, log[:count], opening) == seen for count, seen in looks])
+    # The areas are the same for all looks, so they are looked for only once.
+    return all(keeps_seen(log, looks, area) for area in areas(house, opening))
+
+
+def keeps_seen(log, looks, area):
+    """True if each look saw the word of an area in each of its rooms."""
+    for count, seen in looks:
+        word = word_of(log[:count], area)
+        if any([seen[room] != word for room in area]):
+            return False
+    return True
 
 
 def greatest_opening(house, log, looks, opened, shut):

@@ -22,11 +22,15 @@ def is_part(house, rooms):
 def all_parts(house):
     """The list of all parts of a small house, by their number of rooms."""
     need_small(house)
-    room_sets = [()]
-    for room in range(house.rooms):
-        room_sets = room_sets + [rooms + (room,) for rooms in room_sets]
-    parts = [rooms for rooms in room_sets if is_part(house, rooms)]
-    return sorted(parts, key=lambda part: (len(part), part))
+    return [rooms for rooms in room_sets(house.rooms) if is_part(house, rooms)]
+
+
+def room_sets(count):
+    """The list of all sets of so many rooms, as tuples, by their number of rooms."""
+    found = [()]
+    for room in range(count):
+        found = found + [rooms + (room,) for rooms in found]
+    return sorted(found, key=lambda rooms: (len(rooms), rooms))
 
 
 def reached(house, start, inside):

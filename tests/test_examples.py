@@ -78,6 +78,35 @@ EXAMPLES = [
 >>> count_openings(House.corridor(3), [], [], opened=[(0, 1)])
 2
 """,
+    """
+>>> from callsheard.house import House
+>>> from callsheard.weaves import Joint
+>>> joint = Joint(House.corridor(2), [(0, 'bell'), (1, 'horn')], House(1, []), [(0, 'bell')], (1, 0))
+>>> (joint.pattern_count(), joint.weave_at(1))
+(2, 'baa')
+""",
+    """
+>>> from callsheard.corridors import corridor_count
+>>> corridor_count(5, 2)
+394
+""",
+    """
+>>> from callsheard.house import House
+>>> from callsheard.formtext import parse_form
+>>> from callsheard.further import further_calls
+>>> from callsheard.strikes import strikes
+>>> house = House.corridor(2)
+>>> log = [(0, 'bell'), (1, 'horn'), (0, 'bell')]
+>>> form = parse_form('horn[1](bell[0])')
+>>> (further_calls(house, log, form), strikes(house, log, form))
+([(1, 'horn')], [2])
+""",
+    r"""
+>>> from callsheard.runner import run
+>>> text = 'house 3 0-1 1-2\ncall 0 bell\ncall 2 horn\ncall 1 drum\nform\nlook bell drum drum\ndoors'
+>>> run(text)
+['form drum[1](bell[0] horn[2])', 'doors 0-1:shut 1-2:open']
+""",
 ]
 
 

@@ -44,7 +44,7 @@ def ways_before(rooms, stretches):
     """For each place, in how many ways sound stretches fill the corridor from 0 to the place."""
     ways = [1] + [0] * rooms
     for i, j in stretches:
-        ways[j] += ways[i]
+        ways[j] = ways[j] + ways[i]
     return ways
 
 

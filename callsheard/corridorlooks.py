@@ -52,7 +52,7 @@ def ways_behind(rooms, stretches):
     """For each place, in how many ways sound stretches fill the corridor from the place to its end."""
     ways = [0] * rooms + [1]
     for i, j in reversed(stretches):
-        ways[i] += ways[j]
+        ways[i] = ways[i] + ways[j]
     return ways
 
 

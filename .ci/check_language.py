@@ -95,6 +95,8 @@ class Checker:
             self.fault("L16", line, "import without from")
         if isinstance(node, (ast.BinOp, ast.AugAssign)) and isinstance(node.op, ast.Div):
             self.fault("L7", line, "a division by /")
+        if isinstance(node, ast.AugAssign) and isinstance(node.op, (ast.Add, ast.BitOr)):
+            self.walked(node.target, node.value, line)
         if isinstance(node, ast.Compare):
             for operator, right in zip(node.ops, node.comparators):
                 if isinstance(operator, (ast.Is, ast.IsNot)) and not isinstance(right, ast.Constant):
@@ -158,6 +160,19 @@ class Checker:
             self.fault("L27", line, "pow with two arguments")
         if isinstance(node.func, ast.Name) and node.func.id in ("print", "getattr", "setattr", "hasattr", "chr"):
             self.fault("L8", line, node.func.id)
+        if isinstance(node.func, ast.Attribute) and node.func.attr in ("extend", "update"):
+            for argument in node.args:
+                self.walked(node.func.value, argument, line)
+
+    def walked(self, changed, value, line):
+        """What extend, update, += or |= walks is not what they change, nor an item of the same list."""
+        choices = [value]
+        if isinstance(value, ast.IfExp):
+            choices = [value.body, value.orelse]
+        if isinstance(value, ast.BoolOp):
+            choices = value.values
+        if any(ast.unparse(container(choice)) == ast.unparse(container(changed)) for choice in choices):
+            self.fault("L23", line, "extend, update, += or |= gets what it changes")
 
     def sets(self, tree):
         """A set stands behind in, beside ==, in sorted or len, or alone in an assignment."""
@@ -172,6 +187,13 @@ class Checker:
             measured = isinstance(around, ast.Call) and getattr(around.func, "id", "") in ("sorted", "len")
             if not (measured or isinstance(around, (ast.Compare, ast.Assign))):
                 self.fault("L24", node.lineno, "a set in another place")
+
+
+def container(node):
+    """What an item is an item of, at any depth; any other expression itself."""
+    while isinstance(node, ast.Subscript):
+        node = node.value
+    return node
 
 
 def main():
